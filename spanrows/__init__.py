@@ -1,0 +1,1 @@
+"""Spanrows: spans of rows under inserted and deleted rows."""
