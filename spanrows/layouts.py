@@ -2,7 +2,7 @@
 
 from spanrows.errors import BadPieces, BadRow, BadText, Clash, TooManyPieces
 from spanrows.pieces import (PLAIN, common_ranges, first_wrong, followed, label_at, new_labels, normal_form,
-                             old_ranges, piece_text, read_piece, starts_of, woven)
+                             old_ranges, piece_text, read_piece, row_of_old, starts_of, woven)
 
 
 class Layout:
@@ -71,10 +71,7 @@ class Layout:
         """The number of the row of an old row, or None if it is deleted."""
         if old < 0:
             raise BadRow(old)
-        for start, piece in zip(self.starts, self.parts):
-            if piece[0] == "old" and piece[1] <= old and (piece[2] is None or old <= piece[2]):
-                return start + old - piece[1]
-        return None
+        return row_of_old(self.parts, self.starts, old)
 
     def __eq__(self, other):
         return isinstance(other, Layout) and self.parts == other.parts

@@ -142,6 +142,45 @@ def label_at(pieces, starts, number):
     return label_in(pieces[index], number - starts[index])
 
 
+def row_of_old(pieces, starts, old):
+    """The number of the row of an old row, or None if the pieces do not have it."""
+    for start, piece in zip(starts, pieces):
+        if piece[0] == "old" and piece[1] <= old and (piece[2] is None or old <= piece[2]):
+            return start + old - piece[1]
+    return None
+
+
+def first_row_from(pieces, starts, low):
+    """The first row whose label has at least this low."""
+    for start, piece in zip(starts, pieces[:-1]):
+        if piece[0] == "new" and piece[1] >= low:
+            return start
+        if piece[0] == "old" and piece[2] >= low:
+            return start + max(0, low - piece[1])
+    return starts[-1] + max(0, low - pieces[-1][1])
+
+
+def last_row_up_to(pieces, starts, high):
+    """The last row whose label has at most this high, or -1 if there is none."""
+    found = -1
+    for start, piece in zip(starts, pieces):
+        if piece[0] == "new" and piece[2] <= high:
+            found = start + piece[3] - 1
+        if piece[0] == "old" and piece[1] <= high:
+            found = start + lesser(high, piece[2]) - piece[1]
+    return found
+
+
+def carried_by(pieces, starts, span):
+    """The span to which pieces carry a span of the untouched sheet, or None if it is gone."""
+    first, last = span
+    begin = first_row_from(pieces, starts, first)
+    if last is None:
+        return (begin, None)
+    end = last_row_up_to(pieces, starts, last)
+    return (begin, end) if begin <= end else None
+
+
 def first_rows(piece, many):
     """The piece with only its first rows, at least one."""
     if piece[0] == "old":

@@ -41,10 +41,14 @@ def command_pieces(command):
     return insert_pieces(number, other) if word == "insert" else delete_pieces(number, other)
 
 
+def pieces_behind(script, pieces):
+    """The pieces that a script of commands makes of pieces; there may be any number of them."""
+    for command in script:
+        pieces = followed(pieces, command_pieces(command))
+    return pieces
+
+
 def run(script, *, start=None):
     """The layout behind a script on the untouched sheet, or on the rows of the layout start."""
     check_script(script)
-    pieces = list(PLAIN) if start is None else start.pieces()
-    for command in script:
-        pieces = followed(pieces, command_pieces(command))
-    return Layout(pieces)
+    return Layout(pieces_behind(script, PLAIN if start is None else start.pieces()))

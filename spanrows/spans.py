@@ -1,7 +1,7 @@
 """Spans, and what layouts make of them."""
 
 from spanrows.errors import BadSpan
-from spanrows.pieces import first_label, is_range, lesser, new_labels, old_ranges
+from spanrows.pieces import carried_by, first_label, is_range, new_labels, old_ranges
 
 
 def is_span(span):
@@ -14,36 +14,10 @@ def check_span(span):
         raise BadSpan()
 
 
-def first_row_from(layout, low):
-    """The first row whose label has at least this low."""
-    for start, piece in zip(layout.starts, layout.parts[:-1]):
-        if piece[0] == "new" and piece[1] >= low:
-            return start
-        if piece[0] == "old" and piece[2] >= low:
-            return start + max(0, low - piece[1])
-    return layout.starts[-1] + max(0, low - layout.tail)
-
-
-def last_row_up_to(layout, high):
-    """The last row whose label has at most this high, or -1 if there is none."""
-    found = -1
-    for start, piece in zip(layout.starts, layout.parts):
-        if piece[0] == "new" and piece[2] <= high:
-            found = start + piece[3] - 1
-        if piece[0] == "old" and piece[1] <= high:
-            found = start + lesser(high, piece[2]) - piece[1]
-    return found
-
-
 def carried(layout, span):
     """The span to which a layout carries a span of the untouched sheet, or None if it is gone."""
     check_span(span)
-    first, last = span
-    begin = first_row_from(layout, first)
-    if last is None:
-        return (begin, None)
-    end = last_row_up_to(layout, last)
-    return (begin, end) if begin <= end else None
+    return carried_by(layout.parts, layout.starts, span)
 
 
 def firsts_carried_to(layout, row):

@@ -172,3 +172,97 @@ def small_spans(reach):
         yield (first, None)
         for last in range(first, reach):
             yield (first, last)
+
+
+def needed_of(rows):
+    """The needed labels by [11]: all pairs of new rows p and q with labels, where p is q or comes before q."""
+    fresh = [label for label in rows if is_new(label)]
+    return sorted({(fresh[q][0], fresh[p][1]) for p in range(len(fresh)) for q in range(p, len(fresh))
+                   if fresh[q][0] < fresh[p][1]})
+
+
+def breaks_of(rows):
+    """The breaks by [12], from row to row."""
+    labels = [label for label in rows if label is not None]
+    found = [] if labels[0] == (0, 0) else [(None, labels[0])]
+    for one, other in zip(labels, labels[1:]):
+        both_old = not is_new(one) and not is_new(other)
+        if one[0] != other[0] and one[1] != other[1] and not (both_old and other[0] == one[0] + 1):
+            found.append((one, other))
+    return found
+
+
+def fewest_of(rows):
+    """The number of [13]."""
+    needed = needed_of(rows)
+    return len(needed) + sum(high - low >= 2 for low, high in needed) + len(breaks_of(rows)) + (None in rows)
+
+
+def many_labels(dice, most=59):
+    """Pieces with up to `most` labels of new rows that overlap each other, with and without top rows and old rows."""
+    pieces = [("top", dice.randrange(1, 9))] if dice.randrange(2) else []
+    low, high = 0, dice.randrange(2, 20)
+    if dice.randrange(2):
+        pieces.append(("old", 0, 0))
+    while len(pieces) < most:
+        pieces.append(("new", low, high, dice.randrange(1, 9)))
+        rise, lift = dice.choice([(0, 1), (1, 0), (1, 1), (2, 1), (1, 2), (0, 3)])
+        low, high = low + rise, max(high + lift, low + rise + 1)
+    return pieces + [("old", high + dice.randrange(2), None)]
+
+
+def moved_number(command, number):
+    """Where a command puts a row, or None if it deletes it, by [3]."""
+    rows = list(range(WINDOW))
+    word, first, other = command
+    if word == "insert":
+        rows[first:first] = [None] * other
+    else:
+        del rows[first:other + 1]
+    return rows.index(number) if number in rows else None
+
+
+class Cells:
+    """A slow model of the sheets of [16]: every command is followed row by row or column by column at its time."""
+
+    def __init__(self):
+        self.contents = {}
+
+    def apply(self, command):
+        word, axis = command[0].split("_")
+        plain = (word, command[1], command[2])
+        at = ("rows", "columns").index(axis)
+        moved = {}
+        for cell, content in self.contents.items():
+            number = moved_number(plain, cell[at])
+            if number is not None:
+                place = list(cell)
+                place[at] = number
+                moved[tuple(place)] = self.followed(content, plain, at)
+        self.contents = moved
+
+    def followed(self, content, plain, at):
+        if isinstance(content, int) or content[1] is None:
+            return content
+        box = list(content[1])
+        box[at] = carry_by_rows([plain], box[at])
+        return (content[0], None if box[at] is None else tuple(box))
+
+    def value(self, cell, path=()):
+        """The value, or a tuple ("Gone" or "Ring", cell) for what is met first."""
+        content = self.contents.get(cell)
+        if not isinstance(content, tuple):
+            return content
+        kind, box = content
+        if box is None:
+            return ("Gone", cell)
+        values = []
+        for other in sorted(self.contents):
+            if all(first <= number and (last is None or number <= last) for number, (first, last) in zip(other, box)):
+                found = ("Ring", other) if other in path + (cell,) else self.value(other, path + (cell,))
+                if isinstance(found, tuple):
+                    return found
+                if found is not None:
+                    values.append(found)
+        return {"sum": sum, "count": len, "least": lambda some: min(some, default=None),
+                "most": lambda some: max(some, default=None)}[kind](values)

@@ -1,9 +1,13 @@
-"""The examples of the document for errors, layouts, scripts and spans."""
+"""The examples of the document, from layouts to cells."""
 
 import unittest
 
-from spanrows.errors import BadCommand, BadPieces
+from spanrows.cells import Sheet
+from spanrows.errors import BadCommand, BadPieces, Ring
+from spanrows.grids import carried_box, fewest_grid, run_grid
 from spanrows.layouts import Layout, composed, merged
+from spanrows.needs import bound
+from spanrows.plans import plan, shortened
 from spanrows.scripts import run
 from spanrows.spans import carried, gone_spans, sources
 
@@ -46,6 +50,41 @@ class Examples(unittest.TestCase):
             [carried(layout, (0, 5)), carried(layout, (1, 2)), carried(layout, (2, None)), sources(layout, (0, 4)),
              sources(layout, (4, 4)), sources(layout, (0, 3)), gone_spans(layout)],
             [(0, 6), None, (4, None), ((0, 0), (3, 3)), ((1, 3), (3, 3)), None, [(1, 2)]])
+
+    def test_bound(self):
+        layout = Layout([("old", 0, 0), ("new", 0, 2, 1), ("new", 1, 3, 1), ("old", 3, None)])
+        self.assertEqual(
+            bound(layout),
+            ("bound", 6, [((0, 2), (0, 2), (0, 2)), ((1, 2), (0, 2), (1, 3)), ((1, 3), (1, 3), (1, 3))],
+             [((0, 2), (1, 3))]))
+
+    def test_shortened(self):
+        script = [("insert", 3, 1), ("insert", 3, 1), ("delete", 0, 0), ("insert", 0, 2)]
+        self.assertEqual([len(shortened(script)), run(shortened(script)) == run(script)], [3, True])
+        self.assertEqual(plan(run(script)), shortened(script))
+
+    def test_grid(self):
+        grid = run_grid([("insert_rows", 1, 2), ("delete_columns", 3, 4), ("delete_rows", 0, 0)])
+        self.assertEqual(
+            [repr(grid), carried_box(grid, ((0, 2), (2, None))), carried_box(grid, ((1, 1), (3, 4))),
+             fewest_grid(grid)],
+            ["Grid(2 x 2 pieces)", ((0, 3), (2, None)), None, 3])
+
+    def test_sheet(self):
+        sheet = Sheet()
+        sheet.put((0, 0), 5)
+        sheet.put((2, 0), 7)
+        sheet.put((3, 1), ("sum", ((0, 2), (0, None))))
+        sheet.apply_all([("insert_rows", 1, 2), ("delete_rows", 0, 0)])
+        self.assertEqual([sheet.cells(), sheet.content((4, 1)), sheet.value((4, 1))],
+                         [[(3, 0), (4, 1)], ("sum", ((0, 3), (0, None))), 7])
+
+    def test_ring(self):
+        sheet = Sheet()
+        sheet.put((0, 0), ("count", ((0, 0), (0, 5))))
+        with self.assertRaises(Ring) as caught:
+            sheet.value((0, 0))
+        self.assertEqual(caught.exception.cell, (0, 0))
 
 
 if __name__ == "__main__":

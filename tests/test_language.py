@@ -15,6 +15,17 @@ INTERFACE = {
     "layouts": ["composed", "clash", "merged", "labels_of", "Layout"],
     "scripts": ["check_script", "run"],
     "spans": ["is_span", "carried", "sources", "difference", "is_difference", "gone_spans"],
+    "needs": ["needed_labels", "breaks", "fewest", "bound", "check_bound"],
+    "plans": ["steps_of", "plan", "shortened"],
+    "grids": ["check_grid_script", "run_grid", "carried_box", "difference_box", "fewest_grid", "plan_grid", "Grid"],
+    "cells": ["Sheet"],
+}
+METHODS = {
+    "Layout": ["plain", "read", "top", "tail", "shift", "pieces", "row", "where", "__eq__", "__len__", "__repr__",
+               "__str__"],
+    "Grid": ["plain", "rows", "columns", "__eq__", "__repr__"],
+    "Sheet": ["put", "erase", "content", "cells", "value", "apply", "apply_all", "twin", "__eq__", "__len__",
+              "__repr__"],
 }
 ALLOWED_BUILTINS = set("""len range enumerate zip min max sum abs sorted reversed int str bool list tuple dict set
     isinstance ord repr any all divmod Exception ValueError TypeError KeyError IndexError LookupError
@@ -106,6 +117,12 @@ class Imports(unittest.TestCase):
             defined = [node.name for node in tree.body if isinstance(node, (ast.FunctionDef, ast.ClassDef))]
             self.assertEqual(set(names) - set(defined), set(), module)
 
+    def test_methods_of_the_interface_are_defined_in_their_classes(self):
+        bodies = {node.name: [part.name for part in node.body if isinstance(part, ast.FunctionDef)]
+                  for name, node in nodes(ast.ClassDef)}
+        for name, methods in METHODS.items():
+            self.assertEqual(set(methods) - set(bodies[name]), set(), name)
+
 
 class Code(unittest.TestCase):
     def test_barred_nodes(self):
@@ -165,6 +182,28 @@ class Code(unittest.TestCase):
             for sign, right in zip(node.ops, node.comparators):
                 if isinstance(sign, (ast.Is, ast.IsNot)):
                     self.assertTrue(isinstance(right, ast.Constant) and right.value in (None, True, False), name)
+
+    def test_generators_are_iterated_at_once(self):
+        makers = {node.name for name, node in nodes(ast.FunctionDef)
+                  if any(isinstance(part, ast.Yield) for part in ast.walk(node))}
+        self.assertEqual(makers, {"labels_of", "steps_of"})
+        iterated = []
+        for name, node in nodes((ast.For, ast.Call)):
+            if isinstance(node, ast.For):
+                iterated.append(node.iter)
+            elif isinstance(node.func, ast.Name) and node.func.id in ("list", "tuple"):
+                iterated += node.args
+        allowed = {(part.lineno, part.col_offset) for part in iterated}
+        for name, node in nodes(ast.Call):
+            if isinstance(node.func, ast.Name) and node.func.id in makers:
+                self.assertIn((node.lineno, node.col_offset), allowed, name)
+
+    def test_comprehensions_only_in_functions(self):
+        for path in FILES:
+            for node in tree_of(path).body:
+                if not isinstance(node, (ast.FunctionDef, ast.ClassDef)):
+                    kinds = {part.__class__ for part in ast.walk(node)}
+                    self.assertFalse(kinds & {ast.ListComp, ast.DictComp, ast.SetComp, ast.Lambda, ast.Call}, path)
 
     def test_lists_instead_of_generator_expressions(self):
         self.assertEqual([(name, node.lineno) for name, node in nodes(ast.GeneratorExp)], [])
