@@ -55,6 +55,21 @@ class Errors(unittest.TestCase):
         with self.assertRaises(IndexError):
             raise errors.NothingLeft()
 
+    def test_each_is_of_no_other_class_of_the_package(self):
+        for name, parameters in ALL.items():
+            error = getattr(errors, name)(*[VALUES[parameter] for parameter in parameters])
+            others = [other for other in ALL if isinstance(error, getattr(errors, other))]
+            self.assertEqual(others, [name])
+            self.assertEqual(isinstance(error, errors.SpanError), name in UNDER_SPAN_ERROR)
+            self.assertEqual(isinstance(error, ValueError), name in UNDER_SPAN_ERROR)
+            self.assertEqual(isinstance(error, LookupError), name in OTHERS)
+            self.assertEqual(isinstance(error, IndexError), name == "NothingLeft")
+
+    def test_only_the_listed_attributes(self):
+        for name, parameters in ALL.items():
+            error = getattr(errors, name)(*[VALUES[parameter] for parameter in parameters])
+            self.assertEqual(set(vars(error)), {"word", *parameters})
+
     def test_wrong_number_of_arguments(self):
         for name, parameters in ALL.items():
             with self.assertRaises(TypeError):

@@ -1,15 +1,19 @@
-"""The examples of the document, from layouts to cells."""
+"""All examples of the document."""
 
 import unittest
 
+from spanrows.books import Book
 from spanrows.cells import Sheet
-from spanrows.errors import BadCommand, BadPieces, Ring
+from spanrows.console import Console
+from spanrows.errors import BadCommand, BadDeed, BadPieces, BadText, Ring
 from spanrows.grids import carried_box, fewest_grid, run_grid
 from spanrows.layouts import Layout, composed, merged
 from spanrows.needs import bound
 from spanrows.plans import plan, shortened
 from spanrows.scripts import run
 from spanrows.spans import carried, gone_spans, sources
+from spanrows.texts import parse_script, script_text
+from spanrows.watches import Alarm
 
 
 class Examples(unittest.TestCase):
@@ -85,6 +89,43 @@ class Examples(unittest.TestCase):
         with self.assertRaises(Ring) as caught:
             sheet.value((0, 0))
         self.assertEqual(caught.exception.cell, (0, 0))
+
+    def test_alarm(self):
+        alarm = Alarm()
+        alarm.note((2, 5))
+        alarm.note((3, 5))
+        alarm.note((3, None))
+        alarm.note(None)
+        self.assertEqual([alarm.notes, alarm.seen, alarm.told(), alarm.alarms],
+                         [4, None, [(2, 5), (3, 5), (3, None), None], 2])
+
+    def test_book(self):
+        book = Book()
+        book.do_all([("insert", 2, 3), ("name", "mid", (1, 4))])
+        book.do(("delete", 0, 2))
+        self.assertEqual([book.span("mid"), book.steps(), str(book.layout())], [(0, 1), (2, 0), "new 1-2 x2; old 2-"])
+
+    def test_wrong_deed(self):
+        book = Book()
+        with self.assertRaises(BadDeed) as caught:
+            book.do_all([("name", "a", (0, 1)), ("delete", 2)])
+        self.assertEqual(caught.exception.at, 1)
+
+    def test_script_text(self):
+        self.assertEqual([parse_script("insert 2 10\ndelete 0 0\n"), script_text([("delete", 3, 4)])],
+                         [[("insert", 2, 10), ("delete", 0, 0)], "delete 3 4\n"])
+
+    def test_wrong_script_text(self):
+        with self.assertRaises(BadText) as caught:
+            parse_script("insert 2 0\n")
+        self.assertEqual(caught.exception.at, 0)
+
+    def test_console(self):
+        console = Console(Book())
+        self.assertEqual(
+            [console.run("insert 1 2"), console.run("name a 0 3"), console.run("delete 0 1"), console.run("span a"),
+             console.run("row 0"), console.run("undo now"), console.run("span b")],
+            ["ok", "ok", "ok", "0 1", "0 1", "unknown", "error NoName"])
 
 
 if __name__ == "__main__":

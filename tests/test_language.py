@@ -19,6 +19,10 @@ INTERFACE = {
     "plans": ["steps_of", "plan", "shortened"],
     "grids": ["check_grid_script", "run_grid", "carried_box", "difference_box", "fewest_grid", "plan_grid", "Grid"],
     "cells": ["Sheet"],
+    "watches": ["Watch", "Journal", "Alarm"],
+    "books": ["is_name", "Book"],
+    "texts": ["layout_text", "script_text", "parse_script"],
+    "console": ["Console"],
 }
 METHODS = {
     "Layout": ["plain", "read", "top", "tail", "shift", "pieces", "row", "where", "__eq__", "__len__", "__repr__",
@@ -26,6 +30,12 @@ METHODS = {
     "Grid": ["plain", "rows", "columns", "__eq__", "__repr__"],
     "Sheet": ["put", "erase", "content", "cells", "value", "apply", "apply_all", "twin", "__eq__", "__len__",
               "__repr__"],
+    "Watch": ["__init__", "note"],
+    "Journal": ["note", "told"],
+    "Alarm": ["note", "told"],
+    "Book": ["__init__", "depth", "change_depth", "do", "do_all", "undo", "redo", "steps", "names", "span", "layout",
+             "attach", "twin", "__eq__", "__len__", "__repr__"],
+    "Console": ["__init__", "book", "run", "__len__"],
 }
 ALLOWED_BUILTINS = set("""len range enumerate zip min max sum abs sorted reversed int str bool list tuple dict set
     isinstance ord repr any all divmod Exception ValueError TypeError KeyError IndexError LookupError
@@ -174,8 +184,65 @@ class Code(unittest.TestCase):
         read = {node.attr for name, node in nodes(ast.Attribute) if isinstance(node.ctx, ast.Load)}
         values = {target.id for name, node in nodes(ast.ClassDef) for part in node.body
                   if isinstance(part, ast.Assign) for target in part.targets}
-        self.assertEqual(methods & stored, set())
-        self.assertEqual(read - stored - methods - values - ALLOWED_METHODS, set())
+        # A property with a setter is assigned like an attribute.
+        self.assertEqual((methods - {"depth"}) & stored, set())
+        self.assertEqual(read - stored - methods - values - ALLOWED_METHODS, {"setter"})
+
+    def test_decorators(self):
+        properties, setters = set(), set()
+        for name, node in nodes(ast.ClassDef):
+            self.assertEqual(node.decorator_list, [], name)
+            for part in node.body:
+                for mark in getattr(part, "decorator_list", []):
+                    if isinstance(mark, ast.Attribute):
+                        self.assertEqual((mark.value.id, mark.attr), (part.name, "setter"), name)
+                        setters.add(part.name)
+                    else:
+                        self.assertIn(mark.id, ("property", "classmethod"), name)
+                        properties |= {part.name} if mark.id == "property" else set()
+        self.assertEqual(setters, {"depth"})
+        self.assertLess(setters, properties)
+
+    def test_super_only_calls_a_method(self):
+        called = {(name, node.func.value.lineno) for name, node in nodes(ast.Call)
+                  if isinstance(node.func, ast.Attribute) and isinstance(node.func.value, ast.Call)}
+        for name, node in nodes(ast.Call):
+            if isinstance(node.func, ast.Name) and node.func.id == "super":
+                self.assertEqual((node.args, node.keywords), ([], []))
+                self.assertIn((name, node.lineno), called)
+
+    def test_double_underscore_methods(self):
+        for name, node in nodes(ast.FunctionDef):
+            if node.name in ("__len__", "__repr__", "__str__"):
+                self.assertIsInstance(node.body[-1], ast.Return, (name, node.name))
+                value = node.body[-1].value
+                if node.name == "__len__":
+                    self.assertEqual(value.func.id, "len", name)
+            if node.name == "__init__":
+                returns = [part for part in ast.walk(node) if isinstance(part, ast.Return)]
+                self.assertEqual(returns, [], name)
+
+    def test_module_level(self):
+        for path in FILES:
+            names = []
+            for node in tree_of(path).body:
+                self.assertIsInstance(node, (ast.Expr, ast.ImportFrom, ast.FunctionDef, ast.ClassDef, ast.Assign), path)
+                if isinstance(node, ast.Expr):
+                    self.assertIsInstance(node.value.value, str, path)
+                if isinstance(node, ast.ImportFrom):
+                    names += [item.name for item in node.names]
+            names += top_names(path)
+            self.assertEqual(len(names), len(set(names)), path)
+
+    def test_no_list_or_dict_at_module_level_is_changed(self):
+        for path in FILES:
+            tables = {node.targets[0].id for node in tree_of(path).body
+                      if isinstance(node, ast.Assign) and isinstance(node.value, (ast.List, ast.Dict))}
+            for node in ast.walk(tree_of(path)):
+                if isinstance(node, ast.Subscript) and isinstance(node.value, ast.Name) and node.value.id in tables:
+                    self.assertIsInstance(node.ctx, ast.Load, path)
+                if isinstance(node, ast.Attribute) and isinstance(node.value, ast.Name) and node.value.id in tables:
+                    self.assertIn(node.attr, ("get", "items", "keys", "values"), path)
 
     def test_is_only_with_none_true_and_false(self):
         for name, node in nodes(ast.Compare):
